@@ -1,10 +1,26 @@
-// Package syntax holds tokens against the grammar of a LINE.
+// Package syntax reads tokens by the grammar of a LINE.
 package syntax
 
 import (
 	"glyphs/api"
 	"glyphs/token"
 )
+
+// Line is what a LINE says: an EXPR, and the NAME that is to keep what it
+// makes, or no text.
+type Line struct {
+	Name string
+	Expr *Expr
+}
+
+// Expr is an EXPR by its head: a function with what it works on (Left is nil
+// if there is no THING ahead of it), a NAME, or the first NUM of Numbers.
+type Expr struct {
+	Head    token.Token
+	Left    *Expr
+	Right   *Expr
+	Numbers []int64
+}
 
 // reader goes through tokens from the left. Where a method answers false,
 // next is the first token that can't be there.
@@ -14,71 +30,95 @@ type reader struct {
 	open   int
 }
 
-// Check tells whether tokens are a LINE. If not it answers the index of the
-// first one with which no LINE begins: how many there are, if each could be.
-func Check(tokens []token.Token) (int, bool) {
+// Read answers the LINE that tokens are. If they are none it answers false,
+// and the index of the first one with which no LINE begins: how many there
+// are, if each could be.
+func Read(tokens []token.Token) (Line, int, bool) {
 	r := reader{tokens: tokens}
-	if !r.line() {
-		return r.next, false
+	line, ok := r.line()
+	if !ok || r.next < len(tokens) {
+		return Line{}, r.next, false
 	}
-	return 0, true
+	return line, 0, true
 }
 
-func (r *reader) line() bool {
+func (r *reader) line() (Line, bool) {
+	name := ""
 	if len(r.tokens) > 1 && r.tokens[0].Kind == token.Name && r.tokens[1].Kind == token.Is {
+		name = r.tokens[0].Text
 		r.next = 2
 	}
-	return r.expr() && r.next == len(r.tokens)
+	expr, ok := r.expr()
+	return Line{name, expr}, ok
 }
 
-// expr loops where the grammar has an EXPR at an EXPR's end, so that only
-// `(` nests.
-func (r *reader) expr() bool {
+func (r *reader) expr() (*Expr, bool) {
+	if head, ok := r.function(token.Ahead); ok {
+		right, ok := r.expr()
+		return &Expr{Head: head, Right: right}, ok
+	}
+	left, ok := r.thing()
+	if !ok {
+		return nil, false
+	}
+	head, ok := r.function(token.Between)
+	if !ok {
+		return left, true
+	}
+	right, ok := r.expr()
+	return &Expr{Head: head, Left: left, Right: right}, ok
+}
+
+func (r *reader) thing() (*Expr, bool) {
+	if head, ok := r.accept(token.Num); ok {
+		return &Expr{Head: head, Numbers: r.numbers(head.Worth)}, true
+	}
+	if head, ok := r.accept(token.Name); ok {
+		return &Expr{Head: head}, true
+	}
+	return r.inParens()
+}
+
+func (r *reader) numbers(first int64) []int64 {
+	numbers := []int64{first}
 	for {
-		if r.function(token.Ahead) {
-			continue
+		num, ok := r.accept(token.Num)
+		if !ok {
+			return numbers
 		}
-		if !r.thing() {
-			return false
-		}
-		if !r.function(token.Between) {
-			return true
-		}
+		numbers = append(numbers, num.Worth)
 	}
 }
 
-func (r *reader) thing() bool {
-	nums := 0
-	for r.accept(token.Num) {
-		nums++
+func (r *reader) inParens() (*Expr, bool) {
+	if r.open == api.MaxDepth {
+		return nil, false
 	}
-	return nums > 0 || r.accept(token.Name) || r.inParens()
-}
-
-func (r *reader) inParens() bool {
-	if r.open == api.MaxDepth || !r.accept(token.Open) {
-		return false
+	if _, ok := r.accept(token.Open); !ok {
+		return nil, false
 	}
 	r.open++
-	if !r.expr() || !r.accept(token.Close) {
-		return false
+	expr, ok := r.expr()
+	if !ok {
+		return nil, false
 	}
+	_, ok = r.accept(token.Close)
 	r.open--
-	return true
+	return expr, ok
 }
 
-func (r *reader) function(role token.Role) bool {
-	if r.next < len(r.tokens) && r.tokens[r.next].Roles&role != 0 {
-		r.next++
-		return true
-	}
-	return false
+func (r *reader) function(role token.Role) (token.Token, bool) {
+	return r.acceptIf(func(t token.Token) bool { return t.Roles&role != 0 })
 }
 
-func (r *reader) accept(kind token.Kind) bool {
-	if r.next < len(r.tokens) && r.tokens[r.next].Kind == kind {
-		r.next++
-		return true
+func (r *reader) accept(kind token.Kind) (token.Token, bool) {
+	return r.acceptIf(func(t token.Token) bool { return t.Kind == kind })
+}
+
+func (r *reader) acceptIf(fits func(token.Token) bool) (token.Token, bool) {
+	if r.next == len(r.tokens) || !fits(r.tokens[r.next]) {
+		return token.Token{}, false
 	}
-	return false
+	r.next++
+	return r.tokens[r.next-1], true
 }

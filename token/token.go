@@ -36,10 +36,11 @@ const (
 	tails     = "/\\."
 )
 
-// Token is one piece of a line. Only a Function has roles.
+// Token is one piece of a line. Only a Function has roles, only a Num a worth.
 type Token struct {
 	Kind  Kind
 	Roles Role
+	Worth int64
 	Text  string
 	Place int
 }
@@ -95,10 +96,14 @@ func cutNumber(text string) (Token, bool) {
 	}
 	// The bound is the same with `_` ahead, so the sign stays out of it; a `_`
 	// without digits has an empty text here, which is refused too.
-	if _, err := strconv.ParseInt(digits, 10, 64); err != nil {
+	worth, err := strconv.ParseInt(digits, 10, 64)
+	if err != nil {
 		return Token{}, false
 	}
-	return Token{Kind: Num, Text: text[:end]}, true
+	if start > 0 {
+		worth = -worth
+	}
+	return Token{Kind: Num, Worth: worth, Text: text[:end]}, true
 }
 
 func cutWord(text string) (Token, bool) {

@@ -1,6 +1,7 @@
 package token
 
 import (
+	"math"
 	"slices"
 	"strings"
 	"testing"
@@ -8,21 +9,22 @@ import (
 
 const both = Ahead | Between
 
-func TestSplitTellsKindRolesTextAndPlace(t *testing.T) {
+func TestSplitTellsKindRolesWorthTextAndPlace(t *testing.T) {
 	cases := []struct {
 		line string
 		want []Token
 	}{
 		{"", nil},
 		{"   ", nil},
-		{"12_3", []Token{{Num, 0, "12", 0}, {Num, 0, "_3", 2}}},
-		{" 007  _0 ", []Token{{Num, 0, "007", 1}, {Num, 0, "_0", 6}}},
-		{"ab1cd", []Token{{Name, 0, "ab", 0}, {Num, 0, "1", 2}, {Name, 0, "cd", 3}}},
-		{"i is isis", []Token{{Name, 0, "i", 0}, {Is, 0, "is", 2}, {Name, 0, "isis", 5}}},
-		{"(x)", []Token{{Open, 0, "(", 0}, {Name, 0, "x", 1}, {Close, 0, ")", 2}}},
-		{"-1", []Token{{Function, both, "-", 0}, {Num, 0, "1", 1}}},
-		{"-/-\\-.-", []Token{{Function, Ahead, "-/", 0}, {Function, Ahead, "-\\", 2}, {Function, Between, "-.", 4}, {Function, both, "-", 6}}},
-		{"++", []Token{{Function, both, "+", 0}, {Function, both, "+", 1}}},
+		{"12_3", []Token{{Num, 0, 12, "12", 0}, {Num, 0, -3, "_3", 2}}},
+		{" 007  _0 ", []Token{{Num, 0, 7, "007", 1}, {Num, 0, 0, "_0", 6}}},
+		{"9223372036854775807_9223372036854775807", []Token{{Num, 0, math.MaxInt64, "9223372036854775807", 0}, {Num, 0, -math.MaxInt64, "_9223372036854775807", 19}}},
+		{"ab1cd", []Token{{Name, 0, 0, "ab", 0}, {Num, 0, 1, "1", 2}, {Name, 0, 0, "cd", 3}}},
+		{"i is isis", []Token{{Name, 0, 0, "i", 0}, {Is, 0, 0, "is", 2}, {Name, 0, 0, "isis", 5}}},
+		{"(x)", []Token{{Open, 0, 0, "(", 0}, {Name, 0, 0, "x", 1}, {Close, 0, 0, ")", 2}}},
+		{"-1", []Token{{Function, both, 0, "-", 0}, {Num, 0, 1, "1", 1}}},
+		{"-/-\\-.-", []Token{{Function, Ahead, 0, "-/", 0}, {Function, Ahead, 0, "-\\", 2}, {Function, Between, 0, "-.", 4}, {Function, both, 0, "-", 6}}},
+		{"++", []Token{{Function, both, 0, "+", 0}, {Function, both, 0, "+", 1}}},
 	}
 	for _, c := range cases {
 		tokens, place, ok := Split(c.line)
@@ -47,7 +49,7 @@ func TestEachFunctionHasItsRoles(t *testing.T) {
 	}
 	for text, want := range roles {
 		tokens, _, ok := Split(text)
-		if !ok || !slices.Equal(tokens, []Token{{Function, want, text, 0}}) {
+		if !ok || !slices.Equal(tokens, []Token{{Function, want, 0, text, 0}}) {
 			t.Errorf("Split(%q) = %v, %v, want one function with roles %d", text, tokens, ok, want)
 		}
 	}
