@@ -19,10 +19,17 @@ type Desk struct {
 	values map[string]array.Array
 }
 
+// reading is what a line says, or the error that it has and its place.
+type reading struct {
+	line syntax.Line
+	err  api.Errno
+	at   int
+}
+
 // Parse looks whether a line may be (P3).
 func Parse(line string) (api.Errno, int) {
-	_, err, at := read(line)
-	return err, at
+	said := read(line)
+	return said.err, said.at
 }
 
 // New makes a desk on which a line may cost so much (P4).
@@ -39,9 +46,11 @@ func (d *Desk) Run(lines ...string) []api.Reply {
 	if d == nil || len(lines) > api.MaxLines {
 		return nil
 	}
-	var replies []api.Reply
-	for _, line := range lines {
-		replies = append(replies, d.reply(line))
+	readings := make(chan reading)
+	go readAhead(lines, readings)
+	replies := make([]api.Reply, 0, len(lines))
+	for said := range readings {
+		replies = append(replies, d.reply(said))
 	}
 	return replies
 }
@@ -54,17 +63,26 @@ func (d *Desk) Names() []string {
 	return slices.Sorted(maps.Keys(d.values))
 }
 
-func (d *Desk) reply(text string) api.Reply {
-	line, err, at := read(text)
-	if err != api.OK {
-		return api.Reply{Err: err, At: at}
+// readAhead has no desk: what a line says hangs on its text alone, so that it
+// may be read while those ahead of it are still worked out. Closing is the last
+// it does, and Run waits for that.
+func readAhead(lines []string, readings chan<- reading) {
+	for _, line := range lines {
+		readings <- read(line)
 	}
-	made, cost, fault := evaluate.Expr(line.Expr, d.values, d.fuel)
+	close(readings)
+}
+
+func (d *Desk) reply(said reading) api.Reply {
+	if said.err != api.OK {
+		return api.Reply{Err: said.err, At: said.at}
+	}
+	made, cost, fault := evaluate.Expr(said.line.Expr, d.values, d.fuel)
 	if fault.Err != api.OK {
 		return api.Reply{Err: fault.Err, At: fault.At}
 	}
-	if line.Name != "" {
-		d.keep(line.Name, made)
+	if said.line.Name != "" {
+		d.keep(said.line.Name, made)
 	}
 	return api.Reply{Shape: made.Shape(), Cells: made.Cells(), Cost: cost}
 }
@@ -77,20 +95,20 @@ func (d *Desk) keep(name string, value array.Array) {
 	d.values[strings.Clone(name)] = value
 }
 
-func read(line string) (syntax.Line, api.Errno, int) {
+func read(line string) reading {
 	if len(line) > api.MaxLine {
-		return syntax.Line{}, api.ErrLong, 0
+		return reading{err: api.ErrLong}
 	}
 	tokens, place, ok := token.Split(line)
 	if !ok {
-		return syntax.Line{}, api.ErrToken, place
+		return reading{err: api.ErrToken, at: place}
 	}
 	said, stray, ok := syntax.Read(tokens)
 	switch {
 	case ok:
-		return said, api.OK, 0
+		return reading{line: said}
 	case stray == len(tokens):
-		return syntax.Line{}, api.ErrSyntax, len(line)
+		return reading{err: api.ErrSyntax, at: len(line)}
 	}
-	return syntax.Line{}, api.ErrSyntax, tokens[stray].Place
+	return reading{err: api.ErrSyntax, at: tokens[stray].Place}
 }

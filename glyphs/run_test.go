@@ -232,35 +232,3 @@ func TestNamesAreNewMemory(t *testing.T) {
 	}
 	checkNames(t, d, "a", "b", "c")
 }
-
-func TestRunWritesIntoNoListThatIsHandedInAndKeepsNone(t *testing.T) {
-	d := newDesk(t, 1000)
-	lines := []string{"x is 3", "spare"}
-	if replies := d.Run(lines[:1]...); len(replies) != 1 || told(replies[0]) != ":3" {
-		t.Errorf("P5: Run answers %v", replies)
-	}
-	if !slices.Equal(lines, []string{"x is 3", "spare"}) {
-		t.Errorf("P2: the lines became %q", lines)
-	}
-	lines[0] = "y is 4"
-	checkNames(t, d, "x")
-}
-
-func TestRunAnswersAsManyRepliesAsLines(t *testing.T) {
-	d := newDesk(t, 1000)
-	if replies := d.Run(); len(replies) != 0 {
-		t.Errorf("P5: Run() = %v", replies)
-	}
-	replies := d.Run("x is 3", "x % 0", "iota x")
-	if len(replies) != 3 || told(replies[0]) != ":3" || told(replies[1]) != "ErrDomain 2" || told(replies[2]) != "3:0 1 2" {
-		t.Errorf("P5: Run of three lines = %v", replies)
-	}
-	lines := slices.Repeat([]string{"y is 1"}, api.MaxLines+1)
-	if replies := d.Run(lines...); len(replies) != 0 {
-		t.Errorf("P5: Run of a line too many = %v", replies)
-	}
-	checkNames(t, d, "x")
-	if replies := d.Run(lines[1:]...); len(replies) != api.MaxLines {
-		t.Errorf("P5: Run of MaxLines lines answers %d", len(replies))
-	}
-}
